@@ -8,6 +8,7 @@ import (
 	"windlass/api"
 	"windlass/ir"
 	"windlass/irun"
+	"windlass/samples"
 	"windlass/sem"
 	"windlass/trace"
 )
@@ -26,42 +27,6 @@ func same(t testing.TB, g api.Graphs, bound bool, tape []uint64, fuel int) (api.
 	return r, sure
 }
 
-// act is what a function does, one of a list of things.
-type act struct {
-	op       api.Op
-	function int
-}
-
-// acts that are tried: what is given, and calling and deferring some functions.
-func acts(from, to int, given ...api.Op) []act {
-	var list []act
-	for _, op := range given {
-		list = append(list, act{op: op})
-	}
-	for f := from; f <= to; f++ {
-		list = append(list, act{api.Call, f}, act{api.Defer, f})
-	}
-	return list
-}
-
-// bodies are all lists of up to n acts; a panic is the last.
-func bodies(list []act, n int) [][]act {
-	out := [][]act{nil}
-	if n == 0 {
-		return out
-	}
-	for _, a := range list {
-		if a.op == api.Panic {
-			out = append(out, []act{a})
-			continue
-		}
-		for _, rest := range bodies(list, n-1) {
-			out = append(out, append([]act{a}, rest...))
-		}
-	}
-	return out
-}
-
 // twice is a function as bytecode and as a graph, which have as many steps.
 type twice struct {
 	code  api.Func
@@ -70,11 +35,11 @@ type twice struct {
 
 // twiceOf acts: what function n panics with tells which one it is, and what
 // recover leaves is told.
-func twiceOf(n int, list []act) twice {
+func twiceOf(n int, list []samples.Act) twice {
 	w := twice{api.Func{Keep: -1}, api.Graph{Kinds: make([]api.Kind, 16), Keep: -1}}
 	for k, a := range list {
 		value := uint64(10*n + k)
-		switch a.op {
+		switch a.Op {
 		case api.Recover:
 			w.add(api.Instr{Op: api.Recover}, api.Node{Op: api.NRecover, D: 1, E: 2})
 			w.add(api.Instr{Op: api.Out}, api.Node{Op: api.NOut, A: 2})
@@ -83,9 +48,9 @@ func twiceOf(n int, list []act) twice {
 			w.add(api.Instr{Op: api.Const, Imm: value}, api.Node{Op: api.NConst, D: 3, Imm: value})
 			w.add(api.Instr{Op: api.Panic}, api.Node{Op: api.NPanic, A: 3})
 		case api.Call:
-			w.add(api.Instr{Op: api.Call, Arg: a.function}, api.Node{Op: api.NCall, F: a.function, D: -1})
+			w.add(api.Instr{Op: api.Call, Arg: a.Function}, api.Node{Op: api.NCall, F: a.Function, D: -1})
 		case api.Defer:
-			w.add(api.Instr{Op: api.Defer, Arg: a.function}, api.Node{Op: api.NDefer, F: a.function})
+			w.add(api.Instr{Op: api.Defer, Arg: a.Function}, api.Node{Op: api.NDefer, F: a.Function})
 		}
 	}
 	w.add(api.Instr{Op: api.Ret}, api.Node{Op: api.NRet, A: -1})
@@ -98,32 +63,28 @@ func (w *twice) add(i api.Instr, n api.Node) {
 	w.graph.Nodes = append(w.graph.Nodes, n)
 }
 
-func functions(n int, lists [][]act) []twice {
-	var out []twice
-	for _, l := range lists {
-		out = append(out, twiceOf(n, l))
-	}
-	return out
-}
-
 // TestP8_1AsLayer6: four functions, each of which does up to two things that
 // make frames, end them, or ask about a panic, against their meaning.
 func TestP8_1AsLayer6(t *testing.T) {
-	first := functions(0, bodies(acts(1, 2, api.Panic), 2))
-	second := functions(1, bodies(acts(2, 3, api.Recover, api.Panic), 2))
-	third := functions(2, bodies(acts(3, 3, api.Recover, api.Panic), 2))
-	fourth := functions(3, bodies(acts(1, 0, api.Recover, api.Panic), 2))
-	seen := map[string]int{}
-	for _, a := range first {
-		for _, b := range second {
-			for _, c := range third {
-				for _, d := range fourth {
-					count(seen, asLayer6(t, a, b, c, d))
+	var funcs [4][]twice
+	for n, lists := range samples.ShortLists() {
+		for _, l := range lists {
+			funcs[n] = append(funcs[n], twiceOf(n, l))
+		}
+	}
+	seen := samples.Tally{}
+	for _, a := range funcs[0] {
+		for _, b := range funcs[1] {
+			for _, c := range funcs[2] {
+				for _, d := range funcs[3] {
+					seen.Count(asLayer6(t, a, b, c, d))
 				}
 			}
 		}
 	}
-	enough(t, seen)
+	if few := seen.Few(400); len(few) > 0 {
+		t.Errorf("too few: %v", few)
+	}
 }
 
 func asLayer6(t *testing.T, list ...twice) api.Result {
@@ -144,45 +105,6 @@ func asLayer6(t *testing.T, list ...twice) api.Result {
 		}
 	}
 	return want
-}
-
-// count what has been seen, so that it can be told whether enough was.
-func count(seen map[string]int, r api.Result) {
-	switch r.End.Kind {
-	case api.Exited:
-		seen["exited"]++
-		if r.Panics > 0 {
-			seen["recovered"]++
-		}
-	case api.Uncaught:
-		seen["uncaught"]++
-	case api.NoFuel:
-		seen["no fuel"]++
-	}
-	if r.Panics >= 2 {
-		seen["two panics"]++
-	}
-	if r.Panics >= 3 {
-		seen["three panics"]++
-	}
-	if r.Defers >= 3 {
-		seen["three waiting"]++
-	}
-	if r.Depth >= 4 {
-		seen["four frames"]++
-	}
-	if len(r.Events) >= 5 {
-		seen["five events"]++
-	}
-}
-
-func enough(t *testing.T, seen map[string]int, more ...string) {
-	t.Helper()
-	for _, what := range append(more, "exited", "recovered", "uncaught", "two panics", "three panics", "three waiting", "four frames", "five events") {
-		if n := seen[what]; n < 400 {
-			t.Errorf("only %d times: %s", n, what)
-		}
-	}
 }
 
 // maker makes graphs that are valid in one way. Read bound, kinds are what it
@@ -462,7 +384,7 @@ func makers(seed int64) []*maker {
 
 func TestP8_1ManyGraphs(t *testing.T) {
 	for _, m := range makers(8) {
-		seen := map[string]int{}
+		seen := samples.Tally{}
 		for range 40000 {
 			g := m.graphs()
 			if e := ir.Check(g, m.bound); e != api.OK {
@@ -470,12 +392,14 @@ func TestP8_1ManyGraphs(t *testing.T) {
 			}
 			r, sure := same(t, g, m.bound, m.tape(), m.Intn(600))
 			if sure {
-				count(seen, r)
+				seen.Count(r)
 			} else {
 				seen["not sure"]++
 			}
 		}
-		enough(t, seen, "no fuel")
+		if few := seen.Few(400, "no fuel"); len(few) > 0 {
+			t.Errorf("too few: %v", few)
+		}
 		if seen["not sure"] > 10000 || !m.bound && seen["not sure"] > 0 {
 			t.Errorf("%s: %d times a number is made of a pointer", wayOf(m.bound), seen["not sure"])
 		}
