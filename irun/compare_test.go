@@ -1,8 +1,6 @@
 package irun_test
 
 import (
-	"math"
-	"math/rand"
 	"testing"
 
 	"windlass/api"
@@ -107,279 +105,16 @@ func asLayer6(t *testing.T, list ...twice) api.Result {
 	return want
 }
 
-// maker makes graphs that are valid in one way. Read bound, kinds are what it
-// goes by most often.
+// maker makes graphs that are valid in one way.
 type maker struct {
-	*rand.Rand
+	*samples.Maker
 	bound bool
-	g     api.Graphs
-	at    int // the graph
-	nodes []api.Node
-	jumps []jumpTo
 }
 
-// jumpTo is a node that goes on with a thing, by its number.
-type jumpTo struct {
-	node  int
-	field func(n *api.Node) *int
-	thing int
-}
+func (m maker) graphs() api.Graphs { return m.Graphs(m.bound) }
 
-func (m *maker) one(in int) bool { return m.Intn(in) == 0 }
-
-func (m *maker) add(n api.Node) {
-	n.Next = len(m.nodes) + 1
-	m.nodes = append(m.nodes, n)
-}
-
-func (m *maker) graphs() api.Graphs {
-	m.g = api.Graphs{}
-	for i := range 2 + m.Intn(5) {
-		m.g.Funcs = append(m.g.Funcs, m.head(i))
-	}
-	for i := range m.g.Funcs {
-		m.body(i)
-	}
-	return m.g
-}
-
-// head of a graph: at least two of its places are numbers, two are pointers.
-func (m *maker) head(i int) api.Graph {
-	f := api.Graph{Cells: 1 + m.Intn(3), Keep: m.Intn(2) - 1}
-	places := 4 + m.Intn(8)
-	if m.bound {
-		places = 16 + m.Intn(6)
-	}
-	for p := range places {
-		k := api.Kind(m.Intn(2))
-		if p >= places-4 {
-			k = api.Kind(p % 2)
-		}
-		f.Kinds = append(f.Kinds, k)
-	}
-	if i > 0 {
-		f.Params = m.Perm(places)[:m.Intn(4)]
-		f.Result = m.one(2)
-	}
-	for i := range f.Params {
-		if m.bound {
-			f.Params[i] = i
-		}
-		cell := m.Intn(f.Cells+1) - 1
-		if f.Kinds[f.Params[i]] == api.Ptr && !m.one(20) || f.Kinds[f.Params[i]] == api.Ptr && !m.bound {
-			cell = -1
-		}
-		f.Init = append(f.Init, cell)
-	}
-	return f
-}
-
-// place of a kind; read bound, seldom, one of the other.
-func (m *maker) place(k api.Kind) int {
-	f := m.g.Funcs[m.at]
-	for {
-		p := m.Intn(len(f.Kinds))
-		if f.Kinds[p] == k || m.bound && m.one(30) {
-			return p
-		}
-	}
-}
-
-func (m *maker) number() int  { return m.place(api.Num) }
-func (m *maker) pointer() int { return m.place(api.Ptr) }
-func (m *maker) cell() int    { return m.Intn(m.g.Funcs[m.at].Cells) }
-
-func (m *maker) body(i int) {
-	m.at, m.nodes, m.jumps = i, nil, nil
-	n := 1 + m.Intn(8)
-	var begins []int
-	for range n {
-		begins = append(begins, len(m.nodes))
-		if len(begins) == 1 && m.one(3) {
-			m.ask()
-			continue
-		}
-		m.thing(n)
-	}
-	begins = append(begins, len(m.nodes))
-	m.ret()
-	for _, j := range m.jumps {
-		*j.field(&m.nodes[j.node]) = begins[j.thing]
-	}
-	m.mix()
-}
-
-// mix the order of the nodes.
-func (m *maker) mix() {
-	f := &m.g.Funcs[m.at]
-	to := m.Perm(len(m.nodes))
-	f.Nodes = make([]api.Node, len(m.nodes))
-	for i, n := range m.nodes {
-		if len(ir.Next(n)) > 0 {
-			n.Next = to[n.Next]
-			n.Else = to[n.Else]
-		}
-		f.Nodes[to[i]] = n
-	}
-	f.Entry = to[0]
-}
-
-// thing is nodes that go on with the next thing. There are n of them.
-func (m *maker) thing(n int) {
-	switch m.Intn(18) {
-	case 0, 1, 2:
-		m.some()
-		m.add(api.Node{Op: api.NOut, A: m.number()})
-	case 3, 4:
-		m.some()
-	case 5:
-		m.add(api.Node{Op: api.NCellSet, Cell: m.cell(), A: m.number()})
-	case 6:
-		m.add(api.Node{Op: api.NAddr, D: m.pointer(), Cell: m.cell()})
-	case 7:
-		m.add(api.Node{Op: api.NStore, A: m.pointer(), B: m.number()})
-	case 8, 9:
-		m.call()
-	case 10, 11, 12:
-		f := m.other()
-		m.add(api.Node{Op: api.NDefer, F: f, Args: m.args(f)})
-	case 13:
-		m.ask()
-	case 14:
-		m.some()
-		m.jumpFrom(api.Node{Op: api.NBranch, A: m.number()}, elsewhere, m.Intn(n+1))
-	case 15:
-		m.jumpFrom(api.Node{Op: api.NNop}, next, m.Intn(n+1))
-	case 16:
-		m.some()
-		m.add(api.Node{Op: api.NPanic, A: m.number()})
-	case 17:
-		m.rare()
-	}
-}
-
-func (m *maker) rare() {
-	switch m.Intn(4) {
-	case 0:
-		m.add(api.Node{Op: api.NExit, A: m.number()})
-	case 1:
-		m.ret()
-	case 2:
-		m.add(api.Node{Op: api.NMove, D: m.pointer(), A: m.pointer()})
-		if n := &m.nodes[len(m.nodes)-1]; !m.bound && m.g.Funcs[m.at].Kinds[n.D] != m.g.Funcs[m.at].Kinds[n.A] {
-			n.D = n.A
-		}
-	case 3:
-		m.add(api.Node{Op: api.NNop})
-	}
-}
-
-func (m *maker) jumpFrom(n api.Node, field func(n *api.Node) *int, thing int) {
-	m.jumps = append(m.jumps, jumpTo{len(m.nodes), field, thing})
-	m.add(n)
-}
-
-func (m *maker) ret() {
-	a := -1
-	if m.g.Funcs[m.at].Result {
-		a = m.number()
-	}
-	m.add(api.Node{Op: api.NRet, A: a})
-}
-
-// some place gets a number.
-func (m *maker) some() {
-	d := m.number()
-	switch m.Intn(7) {
-	case 0, 1:
-		m.add(api.Node{Op: api.NConst, D: d, Imm: []uint64{0, 1, 2, 5, 9, math.MaxUint64}[m.Intn(6)]})
-	case 2:
-		m.add(api.Node{Op: api.NBin, By: api.Add + api.Op(m.Intn(14)), D: d, A: m.number(), B: m.number()})
-	case 3:
-		m.add(api.Node{Op: api.NMove, D: d, A: m.number()})
-	case 4:
-		m.add(api.Node{Op: api.NCellGet, D: d, Cell: m.cell()})
-	case 5:
-		m.add(api.Node{Op: api.NIn, D: d})
-	case 6:
-		p := m.pointer()
-		if m.one(2) {
-			m.add(api.Node{Op: api.NAddr, D: p, Cell: m.cell()})
-		}
-		m.add(api.Node{Op: api.NLoad, D: d, A: p})
-	}
-}
-
-// ask whether there is a panic.
-func (m *maker) ask() {
-	d, e := m.number(), m.number()
-	for d == e {
-		e = m.number()
-	}
-	m.add(api.Node{Op: api.NRecover, D: d, E: e})
-	m.add(api.Node{Op: api.NOut, A: e})
-	m.add(api.Node{Op: api.NOut, A: d})
-}
-
-// other is a function, most often one further on: a run of functions that call
-// one another without end has little else in it.
-func (m *maker) other() int {
-	if n := len(m.g.Funcs) - 1 - m.at; n > 0 && !m.one(8) {
-		return m.at + 1 + m.Intn(n)
-	}
-	return m.Intn(len(m.g.Funcs))
-}
-
-func (m *maker) call() {
-	f := m.other()
-	n := api.Node{Op: api.NCall, F: f, D: -1, Args: m.args(f)}
-	if m.g.Funcs[f].Result && !m.one(3) {
-		n.D = 0
-		if !m.bound {
-			n.D = m.number()
-		}
-	}
-	m.add(n)
-	if n.D >= 0 && m.one(2) {
-		m.add(api.Node{Op: api.NOut, A: n.D})
-	}
-}
-
-// args of a function, and the nodes that lay them in their places.
-func (m *maker) args(f int) []int {
-	called := m.g.Funcs[f]
-	var args []int
-	for i, p := range called.Params {
-		at := i
-		if !m.bound {
-			at = m.place(called.Kinds[p])
-		}
-		args = append(args, at)
-		switch {
-		case called.Kinds[p] == api.Ptr && !m.one(3):
-			m.add(api.Node{Op: api.NAddr, D: at, Cell: m.cell()})
-		case m.bound && called.Kinds[p] == api.Ptr:
-			m.add(api.Node{Op: api.NMove, D: at, A: m.pointer()})
-		case m.bound && !m.one(4):
-			m.add(api.Node{Op: api.NMove, D: at, A: m.number()})
-		}
-	}
-	return args
-}
-
-func (m *maker) tape() []uint64 {
-	var tape []uint64
-	for range m.Intn(6) {
-		tape = append(tape, []uint64{0, 1, 2, 3, 64, math.MaxUint64, 1 << 63}[m.Intn(7)])
-	}
-	return tape
-}
-
-func makers(seed int64) []*maker {
-	return []*maker{
-		{Rand: rand.New(rand.NewSource(seed))},
-		{Rand: rand.New(rand.NewSource(seed)), bound: true},
-	}
+func makers(seed uint64) []maker {
+	return []maker{{samples.New(seed), false}, {samples.New(seed), true}}
 }
 
 func TestP8_1ManyGraphs(t *testing.T) {
@@ -390,7 +125,7 @@ func TestP8_1ManyGraphs(t *testing.T) {
 			if e := ir.Check(g, m.bound); e != api.OK {
 				t.Fatalf("%s: layer 7 says %d of %v", wayOf(m.bound), int(e), g)
 			}
-			r, sure := same(t, g, m.bound, m.tape(), m.Intn(600))
+			r, sure := same(t, g, m.bound, m.Tape(), m.Roll(600))
 			if sure {
 				seen.Count(r)
 			} else {
@@ -409,31 +144,9 @@ func TestP8_1ManyGraphs(t *testing.T) {
 func TestP8_2ManyGraphs(t *testing.T) {
 	for _, m := range makers(82) {
 		for range 1000 {
-			g, tape := m.graphs(), m.tape()
+			g, tape := m.graphs(), m.Tape()
 			ladder(t, "a graph that was made", g, m.bound, tape, min(run(t, g, m.bound, tape, 200).Steps+3, 200))
 		}
-	}
-}
-
-// spoilOne changes one number of graphs.
-func (m *maker) spoilOne(g *api.Graphs) {
-	f := &g.Funcs[m.Intn(len(g.Funcs))]
-	n := &f.Nodes[m.Intn(len(f.Nodes))]
-	ints := []*int{&f.Cells, &f.Keep, &f.Entry, &n.D, &n.E, &n.A, &n.B, &n.F, &n.Cell, &n.Next, &n.Else}
-	for _, list := range [][]int{f.Params, f.Init, n.Args} {
-		for i := range list {
-			ints = append(ints, &list[i])
-		}
-	}
-	switch i := m.Intn(len(ints) + 3); {
-	case i < len(ints):
-		*ints[i] += m.Intn(7) - 3
-	case i == len(ints):
-		n.Op = api.NodeOp(m.Intn(20))
-	case i == len(ints)+1:
-		n.By = api.Op(m.Intn(24))
-	default:
-		f.Kinds[m.Intn(len(f.Kinds))] ^= api.Kind(1 + m.Intn(2))
 	}
 }
 
@@ -455,8 +168,8 @@ func TestP8_1ManySpoiltGraphs(t *testing.T) {
 		seen := map[api.Errno]int{}
 		for range 20000 {
 			g := m.graphs()
-			m.spoilOne(&g)
-			seen[tryAny(t, g, m.bound, m.tape(), m.Intn(100))]++
+			m.Spoil(&g)
+			seen[tryAny(t, g, m.bound, m.Tape(), m.Roll(100))]++
 			tryAny(t, g, !m.bound, nil, 100)
 		}
 		if seen[api.OK] < 1000 || seen[api.ErrNode] < 1000 {
@@ -466,17 +179,17 @@ func TestP8_1ManySpoiltGraphs(t *testing.T) {
 }
 
 func FuzzRun(f *testing.F) {
-	for i := range int64(40) {
-		f.Add(i, uint8(i), 50*int(i), uint64(i))
+	for i := range uint64(40) {
+		f.Add(i, uint8(i), 50*int(i), i)
 	}
-	f.Fuzz(func(t *testing.T, seed int64, changes uint8, fuel int, number uint64) {
+	f.Fuzz(func(t *testing.T, seed uint64, changes uint8, fuel int, number uint64) {
 		if fuel < 0 || fuel > 3000 {
 			return
 		}
 		m := makers(seed)[changes%2]
 		g := m.graphs()
 		for range changes / 2 % 8 {
-			m.spoilOne(&g)
+			m.Spoil(&g)
 		}
 		tryAny(t, g, m.bound, []uint64{number, 1}, fuel)
 		tryAny(t, g, !m.bound, []uint64{number}, fuel)

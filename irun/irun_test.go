@@ -10,11 +10,12 @@ import (
 	"windlass/api"
 	"windlass/ir"
 	"windlass/irun"
+	"windlass/samples"
 	"windlass/trace"
 	"windlass/word"
 )
 
-// example is a program of graphs (notation_test.go), and what is to come of it.
+// example is a program of graphs (samples.Graphs), and what is to come of it.
 type example struct {
 	graphs  string
 	tape    []uint64
@@ -232,7 +233,7 @@ func TestP8_1Operations(t *testing.T) {
 var words = []uint64{0, 1, 2, 3, 7, 8, 62, 63, 64, 65, 1<<63 - 1, 1 << 63, 1<<63 + 1, math.MaxUint64 - 1, math.MaxUint64}
 
 func TestP8_1Reckoning(t *testing.T) {
-	for n, name := range binary {
+	for n, name := range samples.Binary() {
 		op := api.Add + api.Op(n)
 		g := program(t, "in 1; in 17; "+name+" 18 1 17; out 18; out 1; out 17; ret -")
 		for _, a := range words {

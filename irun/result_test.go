@@ -10,6 +10,7 @@ import (
 	"windlass/api"
 	"windlass/ir"
 	"windlass/irun"
+	"windlass/samples"
 	"windlass/trace"
 )
 
@@ -279,53 +280,17 @@ func TestP8_1ManyPlaces(t *testing.T) {
 	}
 }
 
-// spare is a list with room behind it, in which there are marks.
-func spare[T any](list []T, mark T) []T {
-	out := append(slices.Clone(list), mark, mark)
-	return out[:len(list)]
-}
-
-// spared graphs have marks behind all lists.
-func spared(g api.Graphs) api.Graphs {
-	g = ir.Copy(g)
-	g.Funcs = spare(g.Funcs, api.Graph{Keep: 77})
-	for i := range g.Funcs {
-		f := &g.Funcs[i]
-		f.Params, f.Init = spare(f.Params, 77), spare(f.Init, 77)
-		f.Kinds = spare(f.Kinds, 77)
-		f.Nodes = spare(f.Nodes, api.Node{Op: 77})
-		for k := range f.Nodes {
-			f.Nodes[k].Args = spare(f.Nodes[k].Args, 77)
-		}
-	}
-	return g
-}
-
-// wholly is a copy of graphs with what lies behind their lists.
-func wholly(g api.Graphs) api.Graphs {
-	g.Funcs = slices.Clone(all(g.Funcs))
-	for i := range g.Funcs {
-		f := &g.Funcs[i]
-		f.Params, f.Init, f.Kinds = all(f.Params), all(f.Init), all(f.Kinds)
-		f.Nodes = slices.Clone(all(f.Nodes))
-		for k := range f.Nodes {
-			f.Nodes[k].Args = all(f.Nodes[k].Args)
-		}
-	}
-	return ir.Copy(g)
-}
-
 func all[T any](list []T) []T { return list[:cap(list)] }
 
 // TestP8_1Arguments: nothing of them is changed, nor what lies behind them.
 func TestP8_1Arguments(t *testing.T) {
 	for _, x := range allExamples() {
 		for _, bound := range x.in.list() {
-			g := spared(program(t, x.graphs))
-			tape := spare(x.tape, 77)
-			whole, wholeTape := wholly(g), slices.Clone(all(tape))
+			g := samples.RoomyGraphs(program(t, x.graphs))
+			tape := samples.Room(x.tape, 77)
+			whole, wholeTape := samples.WhollyGraphs(g), slices.Clone(all(tape))
 			first := run(t, g, bound, tape, plenty)
-			if !ir.Same(whole, wholly(g)) || !slices.Equal(wholeTape, all(tape)) {
+			if !ir.Same(whole, samples.WhollyGraphs(g)) || !slices.Equal(wholeTape, all(tape)) {
 				t.Fatalf("%q: an argument is changed", x.graphs)
 			}
 			events := slices.Clone(first.Events)
