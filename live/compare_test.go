@@ -1,7 +1,6 @@
 package live_test
 
 import (
-	"math/rand"
 	"slices"
 	"testing"
 
@@ -97,26 +96,12 @@ func TestP11_1BuiltGraphs(t *testing.T) {
 
 // TestP11_1SparseGraphs: more nodes and places, of which each node uses few.
 func TestP11_1SparseGraphs(t *testing.T) {
-	r := rand.New(rand.NewSource(11))
+	m := samples.New(15)
 	for _, size := range []struct{ nodes, places, rounds int }{{40, 63, 20}, {40, 64, 20}, {40, 65, 20}, {70, 130, 10}, {10, 1024, 5}} {
 		for range size.rounds {
-			compare(t, sparse(r, size.nodes, size.places))
+			compare(t, m.Sparse(size.nodes, size.places))
 		}
 	}
-}
-
-// sparse is one graph whose nodes use and continue with any of their numbers.
-func sparse(r *rand.Rand, nodes, places int) api.Graphs {
-	f := api.Graph{Kinds: make([]api.Kind, places), Keep: -1}
-	ops := []api.NodeOp{api.NConst, api.NMove, api.NBin, api.NOut, api.NBranch, api.NBranch, api.NNop, api.NIn, api.NRecover, api.NExit}
-	for range nodes {
-		n := api.Node{Op: ops[r.Intn(len(ops))], By: api.Xor, D: r.Intn(places), E: r.Intn(places), A: r.Intn(places), B: r.Intn(places), Next: r.Intn(nodes), Else: r.Intn(nodes)}
-		if n.D == n.E {
-			n.E = (n.D + 1) % places
-		}
-		f.Nodes = append(f.Nodes, n)
-	}
-	return api.Graphs{Funcs: []api.Graph{f}}
 }
 
 // tryAny holds both calls against layer 7 and the second reading, for any graphs.

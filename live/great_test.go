@@ -1,29 +1,13 @@
 package live_test
 
 import (
-	"math/rand"
 	"slices"
 	"strconv"
 	"testing"
 
 	"windlass/api"
+	"windlass/samples"
 )
-
-// great is a program of as many graphs as there may be, the last of which has as
-// many nodes and places as it may; the nodes are made by number.
-func great(node func(i int) api.Node) api.Graphs {
-	g := api.Graphs{Funcs: make([]api.Graph, api.MaxFuncs)}
-	for i := range g.Funcs {
-		g.Funcs[i] = api.Graph{Kinds: make([]api.Kind, api.MaxPlaces), Keep: -1, Nodes: make([]api.Node, api.MaxNodes)}
-		for k := range g.Funcs[i].Nodes {
-			g.Funcs[i].Nodes[k] = api.Node{Op: api.NNop, Next: k}
-		}
-	}
-	for k := range api.MaxNodes {
-		g.Funcs[15].Nodes[k] = node(k)
-	}
-	return g
-}
 
 // upTo are the numbers below n.
 func upTo(n int) []int {
@@ -49,7 +33,7 @@ func TestP11_1GreatLine(t *testing.T) {
 		if name == "back" {
 			number = func(i int) int { return api.MaxNodes - 1 - i }
 		}
-		g := great(func(k int) api.Node {
+		g := samples.GreatGraphs(func(k int) api.Node {
 			i := number(k)
 			if i == api.MaxNodes-1 {
 				return api.Node{Op: api.NRet, A: -1}
@@ -73,10 +57,10 @@ func TestP11_1GreatLine(t *testing.T) {
 // TestP11_1GreatLoops: every node is in a loop that reads all places, and most
 // nodes come before two others.
 func TestP11_1GreatLoops(t *testing.T) {
-	r := rand.New(rand.NewSource(15))
+	m := samples.New(15)
 	for _, far := range []int{1, 2, 100, api.MaxNodes - 1} {
-		g := great(func(i int) api.Node {
-			return api.Node{Op: api.NBranch, A: i % api.MaxPlaces, Next: (i + 1) % api.MaxNodes, Else: (i + 1 + r.Intn(far)) % api.MaxNodes}
+		g := samples.GreatGraphs(func(i int) api.Node {
+			return api.Node{Op: api.NBranch, A: i % api.MaxPlaces, Next: (i + 1) % api.MaxNodes, Else: (i + 1 + m.Roll(far)) % api.MaxNodes}
 		})
 		in, out := at(t, g, 15), after(t, g, 15)
 		for i := range api.MaxNodes {
@@ -89,7 +73,7 @@ func TestP11_1GreatLoops(t *testing.T) {
 // TestP11_1GreatStar: nearly all nodes continue with one, or one place is read by
 // nearly all nodes.
 func TestP11_1GreatStar(t *testing.T) {
-	g := great(func(i int) api.Node {
+	g := samples.GreatGraphs(func(i int) api.Node {
 		switch {
 		case i == 0:
 			return api.Node{Op: api.NRet, A: -1}
@@ -116,13 +100,13 @@ func TestP11_1GreatStar(t *testing.T) {
 // TestP11_1GreatAny: nodes as they come; some of what is live is held against the
 // second reading.
 func TestP11_1GreatAny(t *testing.T) {
-	r := rand.New(rand.NewSource(16))
-	loose := sparse(r, api.MaxNodes, api.MaxPlaces).Funcs[0]
-	g := great(func(i int) api.Node { return loose.Nodes[i] })
+	m := samples.New(16)
+	loose := m.Sparse(api.MaxNodes, api.MaxPlaces).Funcs[0]
+	g := samples.GreatGraphs(func(i int) api.Node { return loose.Nodes[i] })
 	in, out := at(t, g, 15), after(t, g, 15)
 	uses := usesOf(loose)
 	for range 300 {
-		node, place := r.Intn(api.MaxNodes), r.Intn(api.MaxPlaces)
+		node, place := m.Roll(api.MaxNodes), m.Roll(api.MaxPlaces)
 		if got, want := slices.Contains(in[node], place), reaches(uses, node, place); got != want {
 			t.Fatalf("node %d and place %d: In says %v; the second reading says %v", node, place, got, want)
 		}

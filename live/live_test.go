@@ -1,7 +1,6 @@
 package live_test
 
 import (
-	"math"
 	"slices"
 	"strconv"
 	"strings"
@@ -179,93 +178,15 @@ func TestP11_1Graphs(t *testing.T) {
 	)
 }
 
-// probes are nodes of each operation: what they read and write is told. Places 4
-// and 5 are pointers; function 1 has four parameters, function 2 none, function
-// 3 one and a result, function 4 none and a result.
-var probes = []struct{ node, reads, writes string }{
-	{"const 0 7", "", "0"},
-	{"const 3 1", "", "3"},
-	{"move 0 1", "1", "0"},
-	{"move 1 0", "0", "1"},
-	{"move 2 2", "2", "2"},
-	{"move 4 5", "5", "4"},
-	{"move 5 5", "5", "5"},
-	{"add 0 1 2", "1 2", "0"},
-	{"below 3 2 1", "1 2", "3"},
-	{"div 1 1 2", "1 2", "1"},
-	{"rem 2 1 2", "1 2", "2"},
-	{"mul 0 3 3", "3", "0"},
-	{"shl 3 3 3", "3", "3"},
-	{"get 0 2", "", "0"},
-	{"get 2 0", "", "2"},
-	{"set 2 0", "0", ""},
-	{"set 0 2", "2", ""},
-	{"addr 4 1", "", "4"},
-	{"addr 5 3", "", "5"},
-	{"load 0 4", "4", "0"},
-	{"load 3 5", "5", "3"},
-	{"store 4 0", "0 4", ""},
-	{"store 5 3", "3 5", ""},
-	{"branch 0 behind", "0", ""},
-	{"branch 3 behind", "3", ""},
-	{"nop", "", ""},
-	{"jump behind", "", ""},
-	{"call 1 - 0 1 4 5", "0 1 4 5", ""},
-	{"call 1 - 3 2 5 4", "2 3 4 5", ""},
-	{"call 1 - 1 1 4 4", "1 4", ""},
-	{"call 2 -", "", ""},
-	{"call 3 - 2", "2", ""},
-	{"call 3 0 2", "2", "0"},
-	{"call 3 2 2", "2", "2"},
-	{"call 4 3", "", "3"},
-	{"call 4 0", "", "0"},
-	{"call 4 -", "", ""},
-	{"defer 1 3 2 5 4", "2 3 4 5", ""},
-	{"defer 1 0 0 5 5", "0 5", ""},
-	{"defer 2", "", ""},
-	{"defer 3 1", "1", ""},
-	{"defer 4", "", ""},
-	{"recover 0 1", "", "0 1"},
-	{"recover 3 0", "", "0 3"},
-	{"in 0", "", "0"},
-	{"in 3", "", "3"},
-	{"out 0", "0", ""},
-	{"out 3", "3", ""},
-	{"panic 0", "0", "all"},
-	{"panic 3", "3", "all"},
-	{"exit 0", "0", "all"},
-	{"exit 2", "2", "all"},
-	{"ret -", "", "all"},
-}
-
-// probed is a program in which a node is the first one, and nodes that read
-// nothing, or every place, and write none, are behind it.
-func probed(node string, all bool) string {
-	text := "graph places=6 ptrs=4,5; " + node + "; behind: "
-	if all {
-		text += "defer 1 0 1 4 5; defer 1 2 3 4 5; "
-	}
-	return text + "ret - | graph params=0,1,2,3 ptrs=2,3; ret - | ret - | graph params=0 result; ret 0 | graph result; ret 0"
-}
-
-func places(s string) []int {
-	var list []int
-	for _, word := range strings.Fields(s) {
-		p, _ := strconv.Atoi(word)
-		list = append(list, p)
-	}
-	return list
-}
-
-func checkProbe(t *testing.T, name string, g api.Graphs, reads, writes string, all bool) {
+func checkProbe(t *testing.T, name string, g api.Graphs, x samples.Probe, all bool) {
 	t.Helper()
 	var want, behind []int
 	for p := range 6 {
-		passes := all && writes != "all" && !slices.Contains(places(writes), p)
-		if passes || slices.Contains(places(reads), p) {
+		passes := all && !x.Ends && !slices.Contains(x.Writes, p)
+		if passes || slices.Contains(x.Reads, p) {
 			want = append(want, p)
 		}
-		if all && writes != "all" {
+		if all && !x.Ends {
 			behind = append(behind, p)
 		}
 	}
@@ -278,57 +199,26 @@ func checkProbe(t *testing.T, name string, g api.Graphs, reads, writes string, a
 }
 
 func TestP11_1Operations(t *testing.T) {
-	for _, x := range probes {
+	for _, x := range samples.Probes() {
 		for _, all := range []bool{false, true} {
-			checkProbe(t, x.node, graphs(t, probed(x.node, all)), x.reads, x.writes, all)
+			checkProbe(t, x.Node, graphs(t, x.Text(all)), x, all)
 		}
 	}
 	for _, all := range []bool{false, true} {
-		text := strings.Replace(probed("nop", all), "ret - | ret -", "ret - | graph places=6 result; ret 3", 1)
+		text := strings.Replace(samples.Probe{Node: "nop"}.Text(all), "ret - | ret -", "ret - | graph places=6 result; ret 3", 1)
 		if got := told(at(t, graphs(t, text), 2)); got != "3" {
 			t.Errorf("a NRet of place 3: live at it is %s", got)
 		}
 	}
 }
 
-// unused are the fields that an operation does not use; F, Cell and By name no
-// place.
-func unused(n *api.Node) []*int {
-	d, e, a, b, next, elsewhere := &n.D, &n.E, &n.A, &n.B, &n.Next, &n.Else
-	switch n.Op {
-	case api.NConst, api.NCellGet, api.NAddr, api.NCall, api.NIn:
-		return []*int{e, a, b, elsewhere}
-	case api.NMove, api.NLoad:
-		return []*int{e, b, elsewhere}
-	case api.NBin:
-		return []*int{e, elsewhere}
-	case api.NCellSet, api.NOut:
-		return []*int{d, e, b, elsewhere}
-	case api.NStore:
-		return []*int{d, e, elsewhere}
-	case api.NBranch:
-		return []*int{d, e, b}
-	case api.NNop, api.NDefer:
-		return []*int{d, e, a, b, elsewhere}
-	case api.NRecover:
-		return []*int{a, b, elsewhere}
-	}
-	return []*int{d, e, b, next, elsewhere} // NPanic, NExit, NRet
-}
-
 func TestP11_1UnusedFields(t *testing.T) {
-	for _, x := range probes {
+	for _, x := range samples.Probes() {
 		for _, all := range []bool{false, true} {
 			for v := -2; v < 8; v++ {
-				g := graphs(t, probed(x.node, all))
-				n := &g.Funcs[0].Nodes[0]
-				for _, field := range unused(n) {
-					*field = v
-				}
-				if n.Op != api.NCall && n.Op != api.NDefer {
-					n.Args = []int{v, 0, 1, 2, 3, 4, 5}
-				}
-				checkProbe(t, x.node+", where other fields have "+strconv.Itoa(v), g, x.reads, x.writes, all)
+				g := graphs(t, x.Text(all))
+				samples.FillUnused(&g.Funcs[0].Nodes[0], v)
+				checkProbe(t, x.Node+", where other fields have "+strconv.Itoa(v), g, x, all)
 			}
 		}
 	}
@@ -344,85 +234,16 @@ func both(g api.Graphs, f int) [2]api.Errno {
 	return [2]api.Errno{d, e}
 }
 
-func checkErrors(t *testing.T, name string, g api.Graphs, f int, want api.Errno) {
-	t.Helper()
-	if got := both(g, f); got != [2]api.Errno{want, want} {
-		t.Errorf("%s: In and Out of graph %d return %v; want %d (-1: and lists)", name, f, got, int(want))
-	}
-}
-
-func TestP11_1ErrArg(t *testing.T) {
-	for n := 1; n <= api.MaxFuncs; n++ {
-		g := graphs(t, strings.Repeat("out 0; ret - | ", n-1)+"out 0; ret -")
-		for _, f := range []int{math.MinInt, -1 << 32, -n, -2, -1, 0, n - 1, n, n + 1, 15, 16, 17, 1 << 32, math.MaxInt} {
-			want := api.ErrArg
-			if f >= 0 && f < n {
-				want = api.OK
-			}
-			checkErrors(t, strconv.Itoa(n)+" graphs", g, f, want)
+func TestP11_1Errors(t *testing.T) {
+	for _, x := range samples.Asks() {
+		if got := both(x.Graphs, x.Graph); got != [2]api.Errno{x.Want, x.Want} {
+			t.Errorf("%s: In and Out of graph %d return %v; want %d (-1: and lists)", x.Name, x.Graph, got, int(x.Want))
 		}
 	}
 }
 
-// faults are changes of a program of three graphs by which it is not valid, read
-// free; each is made in each graph.
-var faults = []struct {
-	name   string
-	change func(f *api.Graph)
-}{
-	{"no nodes", func(f *api.Graph) { f.Nodes = nil }},
-	{"4097 nodes", func(f *api.Graph) { f.Nodes = slices.Repeat([]api.Node{{Op: api.NNop}}, 4097) }},
-	{"1025 places", func(f *api.Graph) { f.Kinds = make([]api.Kind, 1025) }},
-	{"a kind 2", func(f *api.Graph) { f.Kinds[23] = 2 }},
-	{"65 cells", func(f *api.Graph) { f.Cells = 65 }},
-	{"-1 cells", func(f *api.Graph) { f.Cells = -1 }},
-	{"an Entry of -1", func(f *api.Graph) { f.Entry = -1 }},
-	{"an Entry that does not exist", func(f *api.Graph) { f.Entry = 2 }},
-	{"a Keep that does not exist", func(f *api.Graph) { f.Keep = 4 }},
-	{"five parameters", func(f *api.Graph) { f.Params, f.Init = []int{0, 1, 2, 3, 4}, []int{-1, -1, -1, -1, -1} }},
-	{"an Init of no parameter", func(f *api.Graph) { f.Init = append(f.Init, -1) }},
-	{"an operation 0", func(f *api.Graph) { f.Nodes[0].Op = 0 }},
-	{"an operation 19", func(f *api.Graph) { f.Nodes[0].Op = 19 }},
-	{"a Next of -1", func(f *api.Graph) { f.Nodes[0].Next = -1 }},
-	{"a Next that does not exist", func(f *api.Graph) { f.Nodes[0].Next = 2 }},
-	{"a place -1", func(f *api.Graph) { f.Nodes[0].A = -1 }},
-	{"a place that does not exist", func(f *api.Graph) { f.Nodes[0].A = 24 }},
-	{"a place of another kind", func(f *api.Graph) { f.Kinds[7] = api.Ptr }},
-}
-
-func TestP11_1ErrNode(t *testing.T) {
-	for _, x := range faults {
-		for i := range 3 {
-			g := graphs(t, "out 7; ret - | out 7; ret - | out 7; ret -")
-			x.change(&g.Funcs[i])
-			// It is named ahead of ErrArg.
-			for _, f := range []int{math.MinInt, -1, 0, 1, 2, 3, math.MaxInt} {
-				checkErrors(t, x.name+" in graph "+strconv.Itoa(i), g, f, api.ErrNode)
-			}
-		}
-	}
-	for _, g := range []api.Graphs{{}, {Funcs: []api.Graph{}}, {Funcs: make([]api.Graph, 1)}, graphs(t, "ret - | graph params=0; ret -")} {
-		if len(g.Funcs) == 2 {
-			g.Funcs[0], g.Funcs[1] = g.Funcs[1], g.Funcs[0] // the first one has a parameter
-		}
-		for f := -1; f < 3; f++ {
-			checkErrors(t, "no program", g, f, api.ErrNode)
-		}
-	}
-	for _, n := range []int{16, 17} {
-		g := api.Graphs{Funcs: slices.Repeat(graphs(t, "out 0; ret -").Funcs, n)}
-		want := []api.Errno{api.OK, api.ErrNode}[n-16]
-		checkErrors(t, strconv.Itoa(n)+" graphs", g, 15, want)
-	}
-}
-
-// Graphs are read free: kinds are checked, and places and arguments may be any.
+// A program that is valid only if it is read free: places and arguments may be any.
 func TestP11_1ReadFree(t *testing.T) {
-	bound, ok := samples.Graphs("graph ptrs=3; move 0 3; out 0; ret -")
-	if !ok || ir.Check(bound, true) != api.OK || ir.Check(bound, false) != api.ErrNode {
-		t.Fatalf("layer 7 says %d, read bound", int(ir.Check(bound, true)))
-	}
-	checkErrors(t, "a program that is valid only if it is read bound", bound, 0, api.ErrNode)
 	free := graphs(t, "graph places=3; call 1 1 2 0; out 1; ret - | graph params=5,3 result; ret 5")
 	if ir.Check(free, true) == api.OK {
 		t.Fatal("it is valid, read bound, too")

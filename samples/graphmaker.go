@@ -54,6 +54,21 @@ func (m *Maker) Tangled() api.Graphs {
 	return g
 }
 
+// Sparse is one graph that is valid, read free, whose nodes use and continue with
+// any of its numbers.
+func (m *Maker) Sparse(nodes, places int) api.Graphs {
+	f := api.Graph{Kinds: make([]api.Kind, places), Keep: -1}
+	ops := []api.NodeOp{api.NConst, api.NMove, api.NBin, api.NOut, api.NBranch, api.NBranch, api.NNop, api.NIn, api.NRecover, api.NExit}
+	for range nodes {
+		n := api.Node{Op: ops[m.Roll(len(ops))], By: api.Xor, D: m.Roll(places), E: m.Roll(places), A: m.Roll(places), B: m.Roll(places), Next: m.Roll(nodes), Else: m.Roll(nodes)}
+		if n.D == n.E {
+			n.E = (n.D + 1) % places
+		}
+		f.Nodes = append(f.Nodes, n)
+	}
+	return api.Graphs{Funcs: []api.Graph{f}}
+}
+
 // perm is the numbers below n in any order.
 func (m *Maker) perm(n int) []int {
 	list := make([]int, n)

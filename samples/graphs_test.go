@@ -1,6 +1,7 @@
 package samples_test
 
 import (
+	"slices"
 	"testing"
 
 	"windlass/api"
@@ -90,5 +91,87 @@ func TestSpoilt(t *testing.T) {
 	}
 	if same > 200 || valid < 100 || valid > 900 {
 		t.Errorf("of 1000 graphs %d are the same, %d are valid", same, valid)
+	}
+}
+
+func TestWrongGraphs(t *testing.T) {
+	list := samples.AllWrongGraphs()
+	bound := 0
+	for _, x := range list {
+		if ir.Check(x.Graphs, false) != api.ErrNode {
+			t.Errorf("%s: layer 7 says they are valid", x.Name)
+		}
+		if ir.Check(x.Graphs, true) == api.OK {
+			bound++
+		}
+	}
+	if len(list) < 60 || bound == 0 {
+		t.Errorf("there are %d, of which %d are valid, read bound", len(list), bound)
+	}
+}
+
+func TestAsks(t *testing.T) {
+	seen := map[api.Errno]int{}
+	for _, x := range samples.Asks() {
+		seen[x.Want]++
+		if e := ir.Check(x.Graphs, false); (e == api.ErrNode) != (x.Want == api.ErrNode) || x.Want == api.OK && x.Graph >= len(x.Graphs.Funcs) {
+			t.Errorf("%s, graph %d: layer 7 says %d", x.Name, x.Graph, int(e))
+		}
+	}
+	if seen[api.OK] < 30 || seen[api.ErrArg] < 100 || seen[api.ErrNode] < 400 {
+		t.Errorf("too few: %v", seen)
+	}
+}
+
+// TestProbes: there are some for each operation, and what is told of them is what
+// layer 7 says, whatever is in the fields that are not used.
+func TestProbes(t *testing.T) {
+	seen := map[api.NodeOp]int{}
+	for _, x := range samples.Probes() {
+		for _, all := range []bool{false, true} {
+			g, ok := samples.Graphs(x.Text(all))
+			if !ok || ir.Check(g, false) != api.OK {
+				t.Errorf("%q is none: layer 7 says %d", x.Text(all), int(ir.Check(g, false)))
+				continue
+			}
+			n := &g.Funcs[0].Nodes[0]
+			seen[n.Op]++
+			for v := -3; v < 9; v++ {
+				if !slices.Equal(sorted(ir.Reads(*n)), x.Reads) || !slices.Equal(sorted(ir.Writes(*n)), x.Writes) || (len(ir.Next(*n)) == 0) != x.Ends {
+					t.Errorf("%q, with %d: layer 7 says it reads %v, writes %v, and continues with %v", x.Node, v, ir.Reads(*n), ir.Writes(*n), ir.Next(*n))
+				}
+				samples.FillUnused(n, v)
+			}
+		}
+	}
+	for op := api.NConst; op <= api.NExit; op++ {
+		if seen[op] == 0 {
+			t.Errorf("there is none for operation %d", op)
+		}
+	}
+}
+
+func sorted(list []int) []int {
+	slices.Sort(list)
+	return list
+}
+
+func TestGreatGraphs(t *testing.T) {
+	g := samples.GreatGraphs(func(i int) api.Node { return api.Node{Op: api.NOut, A: i % 1024, Next: 4095 - i} })
+	f := g.Funcs[15]
+	if ir.Check(g, false) != api.OK || len(g.Funcs) != 16 || len(f.Nodes) != 4096 || len(f.Kinds) != 1024 || f.Nodes[4000].Next != 95 {
+		t.Errorf("layer 7 says %d", int(ir.Check(g, false)))
+	}
+}
+
+func TestSparseGraphs(t *testing.T) {
+	a, b := samples.New(4), samples.New(4)
+	for i := range 200 {
+		nodes, places := 1+i%70, 2+i%130
+		g := a.Sparse(nodes, places)
+		f := g.Funcs[0]
+		if ir.Check(g, false) != api.OK || len(f.Nodes) != nodes || len(f.Kinds) != places || !ir.Same(g, b.Sparse(nodes, places)) {
+			t.Fatalf("%d nodes and %d places: layer 7 says %d of %v", nodes, places, int(ir.Check(g, false)), g)
+		}
 	}
 }

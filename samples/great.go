@@ -77,3 +77,20 @@ func (m *Maker) count(result bool) {
 	}
 	m.emit(api.Ret, 0)
 }
+
+// GreatGraphs are as many graphs as there may be, each with as many nodes and
+// places as it may have. Those of the last one are made by number; all others do
+// nothing.
+func GreatGraphs(node func(i int) api.Node) api.Graphs {
+	g := api.Graphs{Funcs: make([]api.Graph, api.MaxFuncs)}
+	for i := range g.Funcs {
+		g.Funcs[i] = api.Graph{Kinds: make([]api.Kind, api.MaxPlaces), Keep: -1, Nodes: make([]api.Node, api.MaxNodes)}
+		for k := range g.Funcs[i].Nodes {
+			g.Funcs[i].Nodes[k] = api.Node{Op: api.NNop, Next: k}
+		}
+	}
+	for k := range api.MaxNodes {
+		g.Funcs[api.MaxFuncs-1].Nodes[k] = node(k)
+	}
+	return g
+}
