@@ -6,6 +6,7 @@ import (
 
 	"windlass/api"
 	"windlass/ir"
+	"windlass/order"
 	"windlass/samples"
 )
 
@@ -173,5 +174,53 @@ func TestSparseGraphs(t *testing.T) {
 		if ir.Check(g, false) != api.OK || len(f.Nodes) != nodes || len(f.Kinds) != places || !ir.Same(g, b.Sparse(nodes, places)) {
 			t.Fatalf("%d nodes and %d places: layer 7 says %d of %v", nodes, places, int(ir.Check(g, false)), g)
 		}
+	}
+}
+
+// most of the intervals have one position in common; held reports whether a
+// pointer is held over a call.
+func crowding(f api.Graph, spans []api.Interval) (most int, held bool) {
+	for position := range f.Nodes {
+		n := 0
+		for _, s := range spans {
+			if s.From <= position && position <= s.To {
+				n++
+			}
+			held = held || s.Held && f.Kinds[s.Place] == api.Ptr
+		}
+		most = max(most, n)
+	}
+	return most, held
+}
+
+// TestCrowdedGraphs: they are as they are told to be, and mostly as crowded as
+// they may be.
+func TestCrowdedGraphs(t *testing.T) {
+	a, b := samples.New(5), samples.New(5)
+	full, pointers, held := 0, 0, 0
+	for i := range 900 {
+		of := samples.Crowd{Nodes: 20 + i%81, Width: 1 + i%20, Pointers: i%3 > 0, Held: i%3 > 1}
+		g := a.Crowded(of)
+		f := g.Funcs[0]
+		spans, e := order.Spans(g, 0)
+		if e != api.OK || len(f.Nodes) < of.Nodes || !ir.Same(g, b.Crowded(of)) {
+			t.Fatalf("%v: layer 12 says %d of %v", of, int(e), g)
+		}
+		most, isHeld := crowding(f, spans)
+		if most > of.Width || isHeld && !of.Held || slices.Contains(f.Kinds, api.Ptr) && !of.Pointers {
+			t.Fatalf("%v: %d places are in use at one node, a pointer is held: %v; %v", of, most, isHeld, g)
+		}
+		if most == of.Width {
+			full++
+		}
+		if slices.Contains(f.Kinds, api.Ptr) {
+			pointers++
+		}
+		if isHeld {
+			held++
+		}
+	}
+	if full < 600 || pointers < 500 || held < 200 {
+		t.Errorf("%d are full, %d have pointers, %d hold some", full, pointers, held)
 	}
 }
