@@ -61,7 +61,7 @@ func wrongHead(f api.Func, g api.Graph) string {
 		return "it has too many nodes"
 	}
 	for _, n := range g.Nodes {
-		if !ir.Same(ofNode(n), ofNode(used(n))) {
+		if !ir.Same(ofNode(n), ofNode(samples.Used(n))) {
 			return "a node has something in a field that it does not use"
 		}
 	}
@@ -70,40 +70,6 @@ func wrongHead(f api.Func, g api.Graph) string {
 
 func ofNode(n api.Node) api.Graphs {
 	return api.Graphs{Funcs: []api.Graph{{Nodes: []api.Node{n}}}}
-}
-
-// used is a node that has nothing in the fields that its operation does not use.
-func used(n api.Node) api.Node {
-	m := api.Node{Op: n.Op, Next: n.Next}
-	switch n.Op {
-	case api.NConst:
-		m.D, m.Imm = n.D, n.Imm
-	case api.NMove, api.NLoad:
-		m.D, m.A = n.D, n.A
-	case api.NBin:
-		m.By, m.D, m.A, m.B = n.By, n.D, n.A, n.B
-	case api.NCellGet, api.NAddr:
-		m.D, m.Cell = n.D, n.Cell
-	case api.NCellSet:
-		m.Cell, m.A = n.Cell, n.A
-	case api.NStore:
-		m.A, m.B = n.A, n.B
-	case api.NBranch:
-		m.A, m.Else = n.A, n.Else
-	case api.NCall:
-		m.F, m.Args, m.D = n.F, n.Args, n.D
-	case api.NDefer:
-		m.F, m.Args = n.F, n.Args
-	case api.NRet, api.NPanic, api.NExit:
-		m.A, m.Next = n.A, 0
-	case api.NOut:
-		m.A = n.A
-	case api.NRecover:
-		m.D, m.E = n.D, n.E
-	case api.NIn:
-		m.D = n.D
-	}
-	return m
 }
 
 // checkNo holds that Build answers an error, and nothing else.

@@ -69,6 +69,26 @@ func (m *Maker) Sparse(nodes, places int) api.Graphs {
 	return api.Graphs{Funcs: []api.Graph{f}}
 }
 
+// Any graphs of all kinds, chosen by a number; some of them are spoilt, once or
+// twice.
+func (m *Maker) Any(choice uint8) api.Graphs {
+	var g api.Graphs
+	switch choice % 4 {
+	case 0:
+		g = m.Graphs(false)
+	case 1:
+		g = m.Tangled()
+	case 2:
+		g = m.Sparse(1+m.Roll(30), 2+m.Roll(40))
+	case 3:
+		g = m.Crowded(Crowd{Nodes: 1 + m.Roll(120), Width: 1 + m.Roll(40), Pointers: m.one(2), Held: m.one(2)})
+	}
+	for range choice / 4 % 3 {
+		m.Spoil(&g)
+	}
+	return g
+}
+
 // perm is the numbers below n in any order.
 func (m *Maker) perm(n int) []int {
 	list := make([]int, n)

@@ -95,6 +95,23 @@ func TestSpoilt(t *testing.T) {
 	}
 }
 
+// TestAnyGraphs: some are valid, some are not, and one seed makes the same.
+func TestAnyGraphs(t *testing.T) {
+	valid := 0
+	for i := range 200 {
+		g, h := samples.New(uint64(i)).Any(uint8(i)), samples.New(uint64(i)).Any(uint8(i))
+		if !ir.Same(g, h) {
+			t.Fatalf("one seed makes %v, and %v", g, h)
+		}
+		if ir.Check(g, false) == api.OK {
+			valid++
+		}
+	}
+	if valid < 100 || valid > 180 {
+		t.Errorf("of 200 %d are valid", valid)
+	}
+}
+
 func TestWrongGraphs(t *testing.T) {
 	list := samples.AllWrongGraphs()
 	bound := 0

@@ -142,3 +142,37 @@ func unused(n *api.Node) []*int {
 	}
 	return []*int{d, e, b, next, elsewhere} // NPanic, NExit, NRet
 }
+
+// Used is a node that has nothing in the fields that its operation does not use.
+func Used(n api.Node) api.Node {
+	m := api.Node{Op: n.Op, Next: n.Next}
+	switch n.Op {
+	case api.NConst:
+		m.D, m.Imm = n.D, n.Imm
+	case api.NMove, api.NLoad:
+		m.D, m.A = n.D, n.A
+	case api.NBin:
+		m.By, m.D, m.A, m.B = n.By, n.D, n.A, n.B
+	case api.NCellGet, api.NAddr:
+		m.D, m.Cell = n.D, n.Cell
+	case api.NCellSet:
+		m.Cell, m.A = n.Cell, n.A
+	case api.NStore:
+		m.A, m.B = n.A, n.B
+	case api.NBranch:
+		m.A, m.Else = n.A, n.Else
+	case api.NCall:
+		m.F, m.Args, m.D = n.F, n.Args, n.D
+	case api.NDefer:
+		m.F, m.Args = n.F, n.Args
+	case api.NRet, api.NPanic, api.NExit:
+		m.A, m.Next = n.A, 0
+	case api.NOut:
+		m.A = n.A
+	case api.NRecover:
+		m.D, m.E = n.D, n.E
+	case api.NIn:
+		m.D = n.D
+	}
+	return m
+}

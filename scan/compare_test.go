@@ -185,22 +185,8 @@ func FuzzScan(f *testing.F) {
 	for i := range uint64(40) {
 		f.Add(i, uint8(i))
 	}
-	f.Fuzz(func(t *testing.T, seed uint64, changes uint8) {
+	f.Fuzz(func(t *testing.T, seed uint64, choice uint8) {
 		m := samples.New(seed)
-		var g api.Graphs
-		switch changes % 4 {
-		case 0:
-			g = m.Graphs(false)
-		case 1:
-			g = m.Tangled()
-		case 2:
-			g = m.Sparse(1+m.Roll(30), 2+m.Roll(20))
-		case 3:
-			g = m.Crowded(samples.Crowd{Nodes: 1 + m.Roll(120), Width: 1 + m.Roll(30), Pointers: m.Roll(2) > 0, Held: m.Roll(2) > 0})
-		}
-		for range changes / 4 % 3 {
-			m.Spoil(&g)
-		}
-		tryAny(t, g)
+		tryAny(t, m.Any(choice))
 	})
 }
